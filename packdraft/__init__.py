@@ -1,0 +1,1 @@
+"""Packs of cards, passed round a table."""
