@@ -4,6 +4,7 @@
 HOW_MANY_NUMBERS = (8, 1, 1, 1, 1, 0, 1, 0, 1, 1, 1, 1, 1, 0, 0, 1, 1, 1)
 # The calls that end with a row: begin, pick, replay.
 CALLS_WITH_ROW = (0, 1, 14)
+PICK = 1
 
 
 class Call:

@@ -1,13 +1,20 @@
-"""The calls on a table, and their answers."""
+"""The calls on a table, and their answers.
 
-from packdraft.draft import Draft, no_draft
+The function of a call is asked only where no refusal is due, and tells what
+stands behind the 0.
+"""
+
+from packdraft.draft import Draft, Setup, no_draft, played
 from packdraft.reading import Reader
-from packdraft.refusals import begin_refusal, late_refusal, pick_refusal, seat_refusal, see_refusal
-from packdraft.sheets import Sort, mixed_sheets
+from packdraft.records import first_wrong_line, read_record, written_record
+from packdraft.refusals import refusal_of
+from packdraft.sheets import Sort
+
+COLOURS = (1, 2, 4, 8)
 
 
 class Line:
-    """Keeps the table of one line of calls; begin puts a new one there."""
+    """Keeps the table of one line of calls; begin, replay and back put a new one there."""
 
     def __init__(self):
         self.draft = no_draft()
@@ -17,98 +24,136 @@ def pairs(sorts):
     counts = {}
     for number in sorted(sorts):
         counts[number] = counts.get(number, 0) + 1
-    answer = []
+    told = []
     for number, how_many in counts.items():
-        answer.extend([number, how_many])
-    return answer
+        told.extend([number, how_many])
+    return told
 
 
 def read_sorts(row):
     return [Sort(row[k], row[k + 1], row[k + 2]) for k in range(0, len(row), 3)]
 
 
+def seat_of(line, call):
+    return line.draft.seats[call.numbers[0]]
+
+
 def begin(line, call):
     numbers = call.numbers
-    refusal = begin_refusal(numbers, call.row)
-    if refusal < 0:
-        return [refusal]
     recipe = numbers[1:5]
-    sheets = mixed_sheets(read_sorts(call.row), numbers[7])
-    line.draft = Draft(numbers[0], recipe, numbers[5], numbers[6], sheets)
-    line.draft.open_round()
-    return [0, sum(recipe)]
+    setup = Setup(numbers[0], recipe, numbers[5], numbers[6], numbers[7], read_sorts(call.row))
+    line.draft = Draft(setup)
+    return [sum(recipe)]
 
 
 def pick(line, call):
-    i = call.numbers[0]
-    refusal = pick_refusal(line.draft, i, call.row)
-    if refusal < 0:
-        return [refusal]
-    return [0] + line.draft.sorts_of(line.draft.take(i, call.row))
+    return line.draft.sorts_of(line.draft.take(call.numbers[0], call.row))
 
 
 def late(line, call):
     i = call.numbers[0]
-    refusal = late_refusal(line.draft, i)
-    if refusal < 0:
-        return [refusal]
     places = list(range(line.draft.due(i)))
-    return [0] + line.draft.sorts_of(line.draft.take(i, places))
+    return line.draft.sorts_of(line.draft.take(i, places))
 
 
 def see(line, call):
-    i = call.numbers[0]
-    refusal = see_refusal(line.draft, i)
-    if refusal < 0:
-        return [refusal]
-    pack = line.draft.seats[i].row[0]
-    return [0, pack.origin, pack.passed] + line.draft.sorts_of(pack.cards)
+    pack = seat_of(line, call).row[0]
+    return [pack.origin, pack.passed] + line.draft.sorts_of(pack.cards)
 
 
 def pool(line, call):
-    i = call.numbers[0]
-    refusal = seat_refusal(line.draft, i)
-    if refusal < 0:
-        return [refusal]
-    return [0] + line.draft.sorts_of(line.draft.seats[i].pool)
+    return line.draft.sorts_of(seat_of(line, call).pool)
 
 
 def waits(line, call):
-    return [0] + [len(seat.row) for seat in line.draft.seats]
+    return [len(seat.row) for seat in line.draft.seats]
 
 
 def sizes(line, call):
-    i = call.numbers[0]
-    refusal = seat_refusal(line.draft, i)
-    if refusal < 0:
-        return [refusal]
-    return [0] + [len(pack.cards) for pack in line.draft.seats[i].row]
+    return [len(pack.cards) for pack in seat_of(line, call).row]
 
 
 def stands(line, call):
     draft = line.draft
     over = 1 if draft.is_over() else 0
-    return [0, len(draft.seats), draft.round_number, over, draft.picks, len(draft.card_sorts)]
+    return [len(draft.seats), draft.round_number, over, len(draft.picks), len(draft.card_sorts)]
 
 
 def seen(line, call):
-    i = call.numbers[0]
-    refusal = seat_refusal(line.draft, i)
-    if refusal < 0:
-        return [refusal]
-    return [0] + pairs(line.draft.sorts_of(list(line.draft.seats[i].looked_at)))
+    return pairs(line.draft.sorts_of(seat_of(line, call).cards_seen()))
+
+
+def gone(line, call):
+    return pairs(line.draft.sorts_of(seat_of(line, call).cards_gone()))
+
+
+def away(line, call):
+    return pairs(line.draft.sorts_of(seat_of(line, call).cards_away()))
+
+
+def colours(line, call):
+    held = [line.draft.setup.sorts[number].colours for number in pool(line, call)]
+    counts = []
+    for colour in COLOURS:
+        counts.append(len([each for each in held if each & colour == colour]))
+    return counts
+
+
+def holders(line, call):
+    k = call.numbers[0]
+    return [line.draft.sorts_of(seat.pool).count(k) for seat in line.draft.seats]
+
+
+def record(line, call):
+    return written_record(line.draft.picks)
+
+
+def replay(line, call):
+    wrong_line = first_wrong_line(call.row)
+    if wrong_line > 0:
+        return [1, wrong_line]
+    # A table of its own: the one that's there stays unless all picks are accepted.
+    draft = Draft(line.draft.setup)
+    for number, told in enumerate(read_record(call.row), start=1):
+        if refusal_of(draft, told) < 0:
+            return [2, number]
+        draft.take(told.numbers[0], told.row)
+    line.draft = draft
+    return [0]
+
+
+def back(line, call):
+    picks = line.draft.picks
+    left = picks[:len(picks) - call.numbers[0]]
+    line.draft = played(line.draft.setup, left)
+    return [len(left)]
+
+
+def truth(line, call):
+    told = []
+    for pack in seat_of(line, call).row:
+        told.extend([pack.origin, pack.passed, len(pack.cards)])
+        told.extend(line.draft.sorts_of(pack.cards))
+    return told
+
+
+def sheet(line, call):
+    return line.draft.setup.sheets[call.numbers[0]]
 
 
 # In the order of the calls' numbers.
-HANDLERS = (begin, pick, late, see, pool, waits, sizes, stands, seen)
+CALLS = (
+    begin, pick, late, see, pool, waits, sizes, stands, seen, gone, away, colours, holders, record, replay, back,
+    truth, sheet,
+)
 
 
 def answer_to(line, call):
-    # The calls 9 to 17 are read, but not written yet: no number is answered.
-    if call.number >= len(HANDLERS):
-        return []
-    handler = HANDLERS[call.number]
-    return handler(line, call)
+    refusal = refusal_of(line.draft, call)
+    if refusal < 0:
+        return [refusal]
+    tell = CALLS[call.number]
+    return [0] + tell(line, call)
 
 
 def answers(calls):

@@ -45,6 +45,17 @@ def nodes(*kinds):
     return [(name, node) for name, tree in TREES for node in ast.walk(tree) if isinstance(node, kinds)]
 
 
+def parents():
+    """What each node stands in."""
+    return {id(part): node for _, node in nodes(ast.AST) for part in ast.iter_child_nodes(node)}
+
+
+def called_name(node):
+    if isinstance(node, ast.Call):
+        return node.func.attr if isinstance(node.func, ast.Attribute) else getattr(node.func, "id", "")
+    return ""
+
+
 def own_methods():
     return {part.name for _, node in nodes(ast.ClassDef) for part in node.body if hasattr(part, "name")}
 
@@ -142,6 +153,52 @@ class Language(unittest.TestCase):
                 self.assertTrue(word not in pythons or word in OWN_OF_PYTHON, where)
             else:
                 self.assertNotIn(word, pythons, where)
+
+    def test_no_local_is_called_like_a_class_or_an_import(self):
+        for name, tree in TREES:
+            taken = {each.name for node in tree.body if isinstance(node, ast.ImportFrom) for each in node.names}
+            taken |= {node.name for node in tree.body if isinstance(node, ast.ClassDef)}
+            for node in ast.walk(tree):
+                word = node.arg if isinstance(node, ast.arg) else getattr(node, "id", "")
+                if isinstance(node, ast.arg) or isinstance(getattr(node, "ctx", None), ast.Store):
+                    self.assertNotIn(word, taken, (name, node.lineno))
+
+    def test_plain_values_at_the_top(self):
+        for name, tree in TREES:
+            functions = {node.name for node in tree.body if isinstance(node, ast.FunctionDef)}
+            for node in tree.body:
+                if isinstance(node, ast.Assign):
+                    for part in ast.walk(node.value):
+                        plain = isinstance(part, (ast.Constant, ast.Tuple, ast.UnaryOp, ast.USub, ast.Load))
+                        known = isinstance(part, ast.Name) and part.id in functions
+                        self.assertTrue(plain or known, (name, node.lineno))
+
+    def test_sets_are_not_kept(self):
+        above = parents()
+        for name, node in nodes(ast.Call):
+            if called_name(node) == "set":
+                holder = above[id(node)]
+                while isinstance(holder, ast.BinOp):
+                    holder = above[id(holder)]
+                right = isinstance(holder, ast.Compare) or called_name(holder) in ("sorted", "len")
+                self.assertTrue(right, (name, node.lineno))
+
+    def test_walked_at_once(self):
+        above = parents()
+        for name, node in nodes(ast.Call):
+            if called_name(node) in ("zip", "enumerate", "reversed", "range", "items", "keys", "values"):
+                holder = above[id(node)]
+                right = isinstance(holder, (ast.For, ast.comprehension)) and holder.iter is node
+                first_in = called_name(holder) in ("list", "tuple", "dict", "sorted", "sum", "any", "all", "enumerate")
+                self.assertTrue(right or first_in and holder.args[0] is node, (name, node.lineno))
+
+    def test_keywords(self):
+        allowed = {"sorted": ("key", "reverse"), "min": ("key", "default"), "max": ("key", "default"),
+                   "sum": ("start",), "enumerate": ("start",), "zip": ("strict",)}
+        for name, node in nodes(ast.Call):
+            if called_name(node) in dir(builtins):
+                for each in node.keywords:
+                    self.assertIn(each.arg, allowed.get(called_name(node), ()), (name, node.lineno))
 
     def test_methods_and_values(self):
         methods = own_methods()

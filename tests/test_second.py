@@ -3,69 +3,10 @@
 import random
 import unittest
 
-from helper import LARGEST, SecondLine, ask, begin, begin_with_row, late, pick, pool, see, seen, sizes, stands, waits
-
-EDGES = (-LARGEST, -1, 0, 1, 2, 3, 4, 5, 7, 8, 9, 15, 16, 19, 20, 21, LARGEST)
-
-
-def right_begin(chance):
-    classes = chance.sample(range(4), chance.randint(1, 4))
-    sorts = [(c, chance.randrange(16), chance.choice((1, 1, 2, 5, 20))) for c in classes]
-    for _ in range(chance.choice((0, 1, 5, 20, 60))):
-        sorts.append((chance.choice(classes), chance.randrange(16), chance.randint(1, 20)))
-    chance.shuffle(sorts)
-    recipe = [0, 0, 0, 0]
-    for _ in range(chance.choice((1, 2, 3, 5, 8, 15, 20))):
-        c = chance.choice(classes)
-        recipe[c] = min(15, recipe[c] + 1)
-    seed = chance.choice((0, 1, LARGEST, chance.randrange(LARGEST)))
-    return begin(chance.randint(2, 8), recipe, chance.randint(1, 3), chance.randint(1, 4), seed, sorts)
-
-
-def changed_begin(chance):
-    """A begin with one or two of its numbers changed, or some of its list left out."""
-    call = right_begin(chance)
-    row = call[10:]
-    for _ in range(chance.randint(1, 2)):
-        place = chance.randrange(1, 9 + len(row))
-        if place < 9:
-            call[place] = chance.choice(EDGES)
-        else:
-            row[place - 9] = chance.choice(EDGES)
-    if chance.random() < 0.3:
-        row = (row * 7)[:chance.choice((0, 1, 2, 4, 191, 192, 193, 195))]
-    return begin_with_row(call[1], call[2:6], call[6], call[7], call[8], row)
-
-
-def right_pick(chance, table):
-    waiting = [i for i in range(table.n) if table.row(i)]
-    if not waiting:
-        return late(0)
-    i = chance.choice(waiting)
-    if chance.random() < 0.2:
-        return late(i)
-    return pick(i, *chance.sample(range(len(table.row(i)[0][2])), table.due(i)))
-
-
-def any_pick(chance):
-    places = [chance.choice((0, 1, 2, 3, 4, 7, 19, 20, -1)) for _ in range(chance.randint(0, 4))]
-    return pick(chance.choice((0, 1, 2, 3, 5, 7, 8, -1)), *places)
-
-
-def next_call(chance, table):
-    draw = chance.random()
-    if draw < 0.6:
-        return right_pick(chance, table)
-    if draw < 0.65:
-        return any_pick(chance)
-    if draw < 0.66:
-        return right_begin(chance)
-    if draw < 0.68:
-        return changed_begin(chance)
-    if draw < 0.76:
-        return chance.choice((waits(), stands()))
-    call = chance.choice((late, see, see, pool, sizes, seen, seen))
-    return call(chance.choice(EDGES) if draw > 0.98 else chance.randrange(max(1, table.n)))
+from helper import (
+    SecondLine, all_told_of, ask, changed_begin, line_by_chance, next_call, play_on, right_begin, second_line, see,
+    seen, stands,
+)
 
 
 class SecondWay(unittest.TestCase):
@@ -75,16 +16,30 @@ class SecondWay(unittest.TestCase):
                 self.fail(f"line {number}: {call} answered {found}, not {wanted}")
 
     def test_whole_lines(self):
+        answered = {}
         for number in range(150):
             chance = random.Random(number)
+            first = [next_call(chance, SecondLine()) for _ in range(number % 3)]
+            calls = line_by_chance(chance, 300, [*first, right_begin(chance)])
             line = SecondLine()
-            calls, expected = [], []
-            while len(calls) < 300:
-                begins = len(calls) == (number % 3)
-                call = right_begin(chance) if begins else next_call(chance, line.table)
-                calls.append(call)
-                expected.append(line.answer(call))
+            expected = [line.answer(call) for call in calls]
+            for call, answer in zip(calls, expected):
+                answered[call[0], tuple(answer[:2 if call[0] == 14 else 1])] = True
             self.check(calls, expected, number)
+        self.assertEqual({number for number, answer in answered if answer[0] == 0}, set(range(18)))
+        replays = [answer for number, answer in sorted(answered) if number == 14]
+        self.assertEqual(replays, [(-2,), (-1,), (0, 0), (0, 1), (0, 2)])
+        self.assertEqual([answer for number, answer in sorted(answered) if number == 15], [(-5,), (-1,), (0,)])
+
+    def test_all_that_is_told(self):
+        for number in range(60):
+            chance = random.Random(1000 + number)
+            begun = right_begin(chance)
+            line = second_line(begun)
+            made = play_on(chance, line, chance.randint(0, 150))
+            calls = [begun, *made, *all_told_of(line.table.n)]
+            line = SecondLine()
+            self.check(calls, [line.answer(call) for call in calls], number)
 
     def test_begins(self):
         refused = {}

@@ -1,13 +1,17 @@
-"""see, pool, waits, sizes, stands and seen."""
+"""see, pool, waits, sizes, stands and seen; and which seats all calls that tell of a seat take."""
 
 import unittest
 
-from helper import LARGEST, ask, begin, last, late, one_class, pick, pool, see, seen, sizes, stands, waits
+from helper import (
+    LARGEST, ask, away, begin, colours, gone, last, late, one_class, pick, pool, see, seen, sizes, stands, truth, waits,
+)
+
+OF_A_SEAT = (see, pool, sizes, seen, gone, away, colours, truth)
 
 
 class NoTable(unittest.TestCase):
     def test_ahead_of_the_first_begin(self):
-        for call in (see, pool, sizes, seen):
+        for call in OF_A_SEAT:
             for i in range(8):
                 with self.subTest(call=call(i)):
                     self.assertEqual(last(call(i)), [-2])
@@ -16,14 +20,14 @@ class NoTable(unittest.TestCase):
 
 class Seats(unittest.TestCase):
     def test_ranges(self):
-        for call in (see, pool, sizes, seen):
+        for call in OF_A_SEAT:
             for begun in ([], [begin(n=2)], [begin(n=8)]):
                 for i in (-1, 8, LARGEST, -LARGEST):
                     with self.subTest(call=call(i), begun=len(begun)):
                         self.assertEqual(last(*begun, call(i)), [-1])
 
     def test_edges_of_each_table(self):
-        for call in (see, pool, sizes, seen):
+        for call in OF_A_SEAT:
             for n in range(2, 9):
                 told = ask(begin(n=n), *[call(i) for i in range(8)])[1:]
                 with self.subTest(call=call(0), n=n):
