@@ -17,7 +17,7 @@ class Seat:
     """A row of waiting packs, the cards taken, and what was looked at.
 
     A pack only gets smaller. So the first look at it shows all of its cards
-    that the seat ever sees, and the last look those that it can't miss yet.
+    that the seat ever sees, and the last look those of them that aren't gone.
     """
 
     def __init__(self):
